@@ -1,0 +1,1 @@
+"""Crossmeans: plots parted in several ways, and means that hang on no order."""

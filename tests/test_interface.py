@@ -1,0 +1,92 @@
+"""The names, parameters and places of definition that the document's interface lists."""
+
+import inspect
+from importlib import import_module
+
+from crossmeans.errors import BadLots, BadPlot, BadShape, BadText
+from crossmeans.lattice import is_join_path
+from crossmeans.matrices import solve
+from crossmeans.partings import Parting, read_parting
+from crossmeans.ratios import total
+from crossmeans.tables import Table, table_sum
+from tests.helpers import BIG, CrossTest, parting
+
+FUNCTIONS = {
+    "partings": {"parting_text": "(parting)", "read_parting": "(text)", "all_partings": "(plots)"},
+    "lattice": {
+        "is_finer": "(first, second)", "is_strictly_finer": "(first, second)", "are_comparable": "(first, second)",
+        "meet_all": "(partings, *, plots=None)", "join_all": "(partings, *, plots=None)",
+        "join_path": "(first, second, start, goal)", "is_join_path": "(first, second, start, goal, path)"},
+    "ratios": {
+        "ratio": "(num, den=1)", "as_ratio": "(number, at=0)", "plus": "(left, right)", "minus": "(left, right)",
+        "times": "(left, right)", "over": "(left, right)", "negated": "(number)", "compare": "(left, right)",
+        "total": "(numbers)", "ratio_text": "(number)", "read_ratio": "(text)"},
+    "tables": {
+        "table_sum": "(plots, *tables)", "lot_totals": "(parting, table)", "means": "(parting, table)",
+        "means_by": "(partings, table)", "residue": "(parting, table)", "is_constant": "(parting, table)",
+        "orders_agree": "(first, second, table)"},
+    "matrices": {
+        "identity": "(plots)", "projector": "(parting)", "matrix_sum": "(left, right)",
+        "matrix_scale": "(matrix, number)", "matrix_product": "(left, right)", "transpose": "(matrix)",
+        "trace": "(matrix)", "apply_matrix": "(matrix, table)", "is_projector": "(matrix)",
+        "solve": "(matrix, right)", "blind_vector": "(matrix, right)"},
+    "meetings": {
+        "meeting": "(first, second)", "first_break": "(first, second)", "are_orthogonal": "(first, second)",
+        "is_break": "(first, second, row)", "break_table": "(first, second, row)",
+        "count_table": "(first, second)", "pair_breaks": "(partings)", "all_orthogonal": "(partings)"},
+    "closure": {
+        "closure": "(partings, *, top=True, bottom=False)", "order_members": "(partings)",
+        "closed_by_joins": "(partings)", "closed_by_meets": "(partings)", "needed": "(partings)",
+        "covers": "(members)", "is_block_structure": "(partings)", "is_simple": "(partings)"},
+}
+CLASSES = {
+    ("partings", "Parting"): {
+        "__init__": "(self, labels)", "lot_of": "(self, plot)", "together": "(self, plot, other)",
+        "is_uniform": "(self)", "one": "(plots)", "single": "(plots)", "from_lots": "(plots, lots)",
+        "__eq__": None, "__and__": None, "__or__": None, "__iter__": None, "__contains__": None},
+    ("tables", "Table"): {
+        "__init__": "(self, cells)", "cell_sum": "(self)", "dot": "(self, table)", "square": "(self)",
+        "is_zero": "(self)", "zeros": "(plots)", "mark": "(plots, lot)",
+        "__add__": None, "__sub__": None, "__neg__": None, "__mul__": None, "__eq__": None, "__iter__": None},
+}
+
+
+class InterfaceTest(CrossTest):
+    def test_functions(self):
+        for module, functions in FUNCTIONS.items():
+            for name, signature in functions.items():
+                made = getattr(import_module(f"crossmeans.{module}"), name)
+                self.assertEqual(str(inspect.signature(made)), signature, name)
+                self.assertEqual(made.__module__, f"crossmeans.{module}")
+
+    def test_classes(self):
+        for (module, name), methods in CLASSES.items():
+            made = getattr(import_module(f"crossmeans.{module}"), name)
+            self.assertEqual(made.__module__, f"crossmeans.{module}")
+            for method, signature in methods.items():
+                self.assertIn(method, vars(made))
+                if signature:
+                    self.assertEqual(str(inspect.signature(getattr(made, method))), signature, method)
+
+
+class NoLimitTest(CrossTest):
+    """Lengths and sizes for which the document names no limit are taken as they are."""
+
+    def test_long_lists(self):
+        self.same(total([1] * 150), (150, 1))
+        self.same(Table.mark(2, [1] * 150).cells, ((0, 1), (1, 1)))
+        self.refuses(BadPlot(None), Table.mark, 2, [1] * 150 + [None])
+        self.refuses(BadLots(1), Parting.from_lots, 2, [[0]] * 150)
+        self.refuses(BadShape(), solve, [[1]], [1] * 150)
+        self.same(table_sum(1, *[Table([1])] * 150).cells, ((150, 1),))
+        self.same(is_join_path(parting("aa"), parting("ab"), 0, 1, (0, 1) * 150), True)
+
+    def test_long_texts(self):
+        self.same(Parting(["a" * 3000, "a" * 3001, "a" * 3000]).names, (0, 1, 0))
+        self.refuses(BadText("0" * 3000), read_parting, "0" * 3000)
+
+    def test_long_numbers(self):
+        long = BIG ** 20
+        self.same(Parting([long, long + 1, long]).names, (0, 1, 0))
+        self.same(Table([(1, long), (long, 2)]).square(), Table([(long, 2), (1, long)]).square())
+        self.same(solve([[long]], [1]), [(1, long)])
