@@ -72,7 +72,7 @@ class Parting:
         return iter(self.lots)
 
     def __contains__(self, x):
-        return isinstance(x, tuple) and x in self.lots
+        return x in self.lots
 
 
 def _first_places(keys):

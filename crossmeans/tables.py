@@ -101,7 +101,6 @@ def means_by(partings, table):
 
 def residue(parting, table):
     """The table minus its means by the parting."""
-    check_alike(parting.plots, [table])
     return table - means(parting, table)
 
 
