@@ -1,7 +1,6 @@
 """Closures of partings by joins, their order, and what a list of partings is closed by."""
 
-from crossmeans.checks import MOST, check_members, check_partings
-from crossmeans.errors import TooMany
+from crossmeans.checks import check_members, check_most, check_partings
 from crossmeans.lattice import is_strictly_finer, join_all
 from crossmeans.meetings import all_orthogonal
 from crossmeans.partings import Parting
@@ -20,8 +19,7 @@ def closure(partings, *, top=True, bottom=False):
     for parting in listed:
         members = _in_order(members + [parting] + [parting | member for member in members])
         # Members are never lost, so a long list is refused before it grows.
-        if len(members) > MOST:
-            raise TooMany("members", MOST)
+        check_most(len(members), "members")
     return members
 
 

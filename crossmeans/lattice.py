@@ -1,6 +1,6 @@
 """Partings beside each other: finer and coarser, meets, joins and the paths of a join."""
 
-from crossmeans.checks import check_alike, check_amount, check_most, check_plot, is_plot
+from crossmeans.checks import check_alike, check_amount, check_most, check_plot, is_place
 from crossmeans.errors import NoPlots
 from crossmeans.partings import Parting
 
@@ -70,7 +70,7 @@ def is_join_path(first, second, start, goal, path):
     if not isinstance(path, tuple) or len(path) == 0:
         return False
     # Kinds come first, so that True is not taken for the plot 1.
-    if not all([is_plot(first.plots, plot) for plot in path]):
+    if not all([is_place(first.plots, plot) for plot in path]):
         return False
     if path[0] != start or path[-1] != goal:
         return False

@@ -2,8 +2,8 @@
 
 from math import lcm
 
-from crossmeans.checks import MOST, check_amount
-from crossmeans.errors import BadShape, TooMany
+from crossmeans.checks import check_amount, check_most
+from crossmeans.errors import BadShape
 from crossmeans.ratios import as_ratio, as_ratios, plus, product_sum, ratio, times, total
 from crossmeans.tables import Table
 
@@ -15,8 +15,7 @@ def _checked_matrix(matrix):
     width = len(matrix[0])
     if width == 0 or any([len(row) != width for row in matrix]):
         raise BadShape()
-    if len(matrix) > MOST or width > MOST:
-        raise TooMany("rows", MOST)
+    check_most(max(len(matrix), width), "rows")
     return [[as_ratio(entry, at * width + k) for k, entry in enumerate(row)] for at, row in enumerate(matrix)]
 
 
@@ -103,8 +102,8 @@ def solve(matrix, right):
     """The list x with matrix times x equal to the right side and 0 at each free column, or None."""
     rows, wanted = _checked_system(matrix, right)
     width = len(rows[0])
-    joint = [_whole_row(row + [number]) for row, number in zip(rows, wanted)]
-    reduced, pivots = _eliminated(joint, width)
+    joint = [whole_row(row + [number]) for row, number in zip(rows, wanted)]
+    reduced, pivots = eliminated(joint, width)
     if any([row[width] != 0 for row in reduced[len(pivots):]]):
         return None
     answer = [(0, 1)] * width
@@ -119,8 +118,8 @@ def blind_vector(matrix, right):
     width = len(rows[0])
     # The unit columns record which sum of multiples of the rows each reduced row is.
     units = identity(len(rows))
-    joint = [_whole_row(row + [number] + unit) for row, number, unit in zip(rows, wanted, units)]
-    reduced, pivots = _eliminated(joint, width)
+    joint = [whole_row(row + [number] + unit) for row, number, unit in zip(rows, wanted, units)]
+    reduced, pivots = eliminated(joint, width)
     for row in reduced[len(pivots):]:
         if row[width] != 0:
             return tuple([ratio(entry, row[width]) for entry in row[width + 1:]])
@@ -136,15 +135,21 @@ def _checked_system(matrix, right):
     return rows, wanted
 
 
-def _whole_row(row):
-    """A multiple of the row of ratios that has whole numbers alone."""
+def shared_den(row):
+    """The least whole number above 0 that makes each ratio of the row whole."""
     scale = 1
     for _, den in row:
         scale = lcm(scale, den)
+    return scale
+
+
+def whole_row(row):
+    """A multiple of the row of ratios that has whole numbers alone."""
+    scale = shared_den(row)
     return [num * (scale // den) for num, den in row]
 
 
-def _eliminated(joint, width):
+def eliminated(joint, width):
     """The rows of whole numbers reduced on their first columns, and the columns of the pivots.
 
     Only the first `width` columns get pivots. Pivot k stands in row k, and all the other rows have 0

@@ -1,7 +1,7 @@
 """Partings: plots that are put into lots, their meets and joins, and their written form."""
 
-from crossmeans.checks import check_alike, check_amount, check_plot, is_decimal, is_plot, is_whole
-from crossmeans.errors import BadLabel, BadLots, BadText, TooMany
+from crossmeans.checks import check_alike, check_amount, check_most, check_plot, is_decimal, is_place, is_whole
+from crossmeans.errors import BadLabel, BadLots, BadText
 
 MOST_PLOTS = 16
 # The count of all partings grows too fast for more plots.
@@ -66,7 +66,7 @@ class Parting:
 
     def __or__(self, other):
         check_alike(self.plots, [other])
-        return Parting(_joined_names(self.names, other.names))
+        return Parting(joined_names(self.names, other.names))
 
     def __iter__(self):
         return iter(self.lots)
@@ -97,7 +97,7 @@ def _labels_of_lots(plots, lots):
             raise BadLots(at)
         for plot in lot:
             # The kind comes first: only a plot may be used as an index.
-            if not is_plot(plots, plot) or labels[plot] is not None:
+            if not is_place(plots, plot) or labels[plot] is not None:
                 raise BadLots(at)
             labels[plot] = at
     if None in labels:
@@ -105,13 +105,14 @@ def _labels_of_lots(plots, lots):
     return labels
 
 
-def _joined_names(first, second):
-    """The names of the join of the two partings that have these names, a list."""
+def joined_names(first, mates):
+    """The names of the finest parting that is coarser than the first and has each plot with its mate, a list."""
     names = list(first)
-    for plot, mate in enumerate(second):
+    for plot, mate in enumerate(mates):
         low = min(names[plot], names[mate])
         high = max(names[plot], names[mate])
-        names = [low if name == high else name for name in names]
+        if low != high:
+            names = [low if name == high else name for name in names]
     return names
 
 
@@ -138,8 +139,7 @@ def read_parting(text):
 def all_partings(plots):
     """All partings of at most 5 plots, ascending by their names."""
     check_amount(plots, "plots")
-    if plots > _MOST_LISTED:
-        raise TooMany("plots", _MOST_LISTED)
+    check_most(plots, "plots", _MOST_LISTED)
     found = [()]
     for plot in range(plots):
         found = [names + (name,) for names in found for name in sorted(set(names)) + [plot]]

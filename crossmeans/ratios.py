@@ -18,6 +18,15 @@ def ratio(num, den=1):
     return (num // shared, den // shared)
 
 
+def is_ratio(value):
+    """True if the value is a ratio itself: a tuple in lowest terms, whatever its kind is."""
+    if not isinstance(value, tuple) or len(value) != 2:
+        return False
+    if not is_whole(value[0]) or not is_whole(value[1]):
+        return False
+    return value[1] >= 1 and gcd(value[0], value[1]) == 1
+
+
 def as_ratio(number, at=0):
     """The ratio of the number; a value that is no number raises BadNumber with the place that is told."""
     if is_whole(number):

@@ -74,6 +74,12 @@ def table_sum(plots, *tables):
     return result
 
 
+def weighted_sum(plots, tables, weights):
+    """The sum of the tables, each multiplied by its weight."""
+    parts = [table * weight for table, weight in zip(tables, weights)]
+    return table_sum(plots, *parts)
+
+
 def lot_totals(parting, table):
     """The sum of the cells of each lot, in the order of the lots."""
     check_alike(parting.plots, [table])

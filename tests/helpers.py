@@ -36,6 +36,14 @@ def parting(text):
     return Parting(list(text))
 
 
+def partings_of(texts):
+    return [parting(text) for text in texts]
+
+
+def names_of(partings):
+    return [made.names for made in partings]
+
+
 def every_parting(plots):
     """All partings of the plots, each once."""
     names = {tuple(labels.index(label) for label in labels) for labels in product(range(plots), repeat=plots)}
@@ -87,3 +95,91 @@ def numbers(seed, count, low=-3, high=3):
         state = (state * 1103515245 + 12345) % 2 ** 31
         result.append(low + (state >> 8) % (high - low + 1))
     return result
+
+
+def mixed_lists(plots, count, size):
+    """Some lists of partings that are always the same."""
+    listed = every_parting(plots)
+    return [[listed[at] for at in numbers(seed, 1 + seed % size, 0, len(listed) - 1)] for seed in range(count)]
+
+
+def slow_finer(first, second):
+    return all(any(lot <= other for other in lots_as_sets(second)) for lot in lots_as_sets(first))
+
+
+def slow_orthogonal(first, second):
+    """True if each two lots within one lot of the join meet in proportion."""
+    joined = slow_join(first, second)
+    for a, b in product(range(first.plots), repeat=2):
+        if joined[a] == joined[b]:
+            common = sum(pair == (first.names[a], second.names[b]) for pair in zip(first.names, second.names))
+            sizes = first.names.count(first.names[a]) * second.names.count(second.names[b])
+            if common * joined.count(joined[a]) != sizes:
+                return False
+    return True
+
+
+def slow_closure(partings, top, bottom):
+    """The names of all joins of one or more, in closure order."""
+    plots = partings[0].plots
+    given = list(partings) + [Parting([0] * plots)] * top + [Parting(list(range(plots)))] * bottom
+    found = {made.names for made in given}
+    while True:
+        more = found | {slow_join(Parting(one), Parting(other)) for one in found for other in found}
+        if more == found:
+            return sorted(found, key=lambda names: (len(set(names)), names))
+        found = more
+
+
+def dot(left, right):
+    return sum((Fraction(a) * b for a, b in zip(left, right)), Fraction(0))
+
+
+def slow_reduced(rows):
+    """The reduced basis of the span of some rows, lists of Fractions."""
+    rest = [[Fraction(cell) for cell in row] for row in rows]
+    done = []
+    for at in range(len(rest[0]) if rest else 0):
+        found = [row for row in rest if row[at] != 0]
+        if found:
+            lead = [cell / found[0][at] for cell in found[0]]
+            rest.remove(found[0])
+            rest = [[cell - row[at] * other for cell, other in zip(row, lead)] for row in rest]
+            done = [[cell - row[at] * other for cell, other in zip(row, lead)] for row in done] + [lead]
+    return done
+
+
+def slow_nearest(rows, cells):
+    """The nearest point of the span of some rows, by an orthogonal basis of Fractions."""
+    basis = []
+    result = [Fraction(0)] * len(cells)
+    for row in rows:
+        for made in basis:
+            row = [cell - dot(row, made) / dot(made, made) * other for cell, other in zip(row, made)]
+        if any(row):
+            basis.append(row)
+            result = [cell + dot(cells, row) / dot(row, row) * other for cell, other in zip(result, row)]
+    return result
+
+
+def slow_marks(partings):
+    """The marks of all lots of the partings, lists of 0 and 1."""
+    return [[int(plot in lot) for plot in range(made.plots)] for made in partings for lot in made.lots]
+
+
+def every_tree(names):
+    """All trees with exactly these factors, from left to right in any order."""
+    if len(names) == 1:
+        return [("factor", names[0])]
+    trees = []
+    for flags in product((True, False), repeat=len(names)):
+        lefts = [name for name, flag in zip(names, flags) if flag]
+        rights = [name for name, flag in zip(names, flags) if not flag]
+        if lefts and rights:
+            trees += [(kind, left, right) for kind in ("cross", "nest") for left in every_tree(lefts)
+                      for right in every_tree(rights)]
+    return trees
+
+
+def factors_of(tree):
+    return [tree[1]] if tree[0] == "factor" else factors_of(tree[1]) + factors_of(tree[2])

@@ -6,7 +6,8 @@ from crossmeans.errors import NoPlots, RepeatedMember, TooMany, UnlikePlots
 from crossmeans.lattice import is_strictly_finer
 from crossmeans.matrices import matrix_product, projector
 from crossmeans.partings import Parting
-from tests.helpers import CrossTest, every_parting, lots_as_sets, numbers, parting, slow_join
+from tests.helpers import (CrossTest, lots_as_sets, mixed_lists, names_of, parting, partings_of, slow_closure,
+                           slow_join)
 
 # Unequal joins of 1 to 4 of these: 15, and neither trivial parting is among them.
 PAIRS = [parting(text) for text in ("aabcdefghi", "abccdefghi", "abcdeefghi", "abcdefgghi")]
@@ -15,34 +16,6 @@ LISTED = (
      ["abcd", "aabb", "abab", "aaaa"], ["abcd", "aabb", "abab", "aaaa", "abba"], ["aabc", "abbc", "abcc"],
      ["abcd", "aaaa", "aabb"], ["abcd", "aaaa", "aabc"], ["a"], ["a", "a"], ["abcdef", "aabbcc", "ababab", "aaaaaa"],
      ["abcdef", "aaabbb", "abcabc", "aaaaaa"]])
-
-
-def partings_of(texts):
-    return [parting(text) for text in texts]
-
-
-def names_of(partings):
-    return [made.names for made in partings]
-
-
-def slow_closure(partings, top, bottom):
-    """The names of all joins of one or more, in closure order."""
-    plots = partings[0].plots
-    given = list(partings) + [Parting([0] * plots)] * top + [Parting(list(range(plots)))] * bottom
-    found = set()
-    for count in range(1, len(given) + 1):
-        for chosen in combinations(given, count):
-            joined = chosen[0]
-            for made in chosen[1:]:
-                joined = Parting(list(slow_join(joined, made)))
-            found.add(joined.names)
-    return sorted(found, key=lambda names: (len(set(names)), names))
-
-
-def mixed_lists(plots, count, size):
-    """Some lists of partings that are always the same."""
-    listed = every_parting(plots)
-    return [[listed[at] for at in numbers(seed, 1 + seed % size, 0, len(listed) - 1)] for seed in range(count)]
 
 
 class ClosureTest(CrossTest):

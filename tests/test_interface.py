@@ -38,6 +38,33 @@ FUNCTIONS = {
         "closure": "(partings, *, top=True, bottom=False)", "order_members": "(partings)",
         "closed_by_joins": "(partings)", "closed_by_meets": "(partings)", "needed": "(partings)",
         "covers": "(members)", "is_block_structure": "(partings)", "is_simple": "(partings)"},
+    "moebius": {
+        "zeta": "(members)", "moebius": "(members)", "dimensions": "(members)", "interval": "(members, low, high)",
+        "sum_up": "(members, numbers)", "turn_back": "(members, numbers)"},
+    "strata": {"is_split": "(members, table, pieces)"},
+    "orders": {
+        "is_coarse_first": "(members, order)", "coarse_first_orders": "(members, *, limit=20)",
+        "sequence_squares": "(partings, order, table)", "fit": "(partings, table)",
+        "is_fit": "(partings, table, parts)", "order_free": "(partings)", "order_paper": "(partings)",
+        "is_order_paper": "(partings, paper)", "order_fits": "(partings, paper)"},
+    "formula": {"same_terms": "(left, right)"},
+    "formread": {
+        "read_formula": "(text)", "write_formula": "(formula)", "write_terms": "(formula)",
+        "formula_for": "(factors, terms)"},
+    "crossnest": {
+        "plots_of": "(sizes)", "coordinates": "(sizes, plot)", "plot_at": "(sizes, levels)",
+        "term_parting": "(sizes, term)", "structure": "(formula, sizes)", "stratum_size": "(formula, sizes, term)",
+        "group_order": "(formula, sizes)", "product_parting": "(first, second)", "cross_partings": "(left, right)",
+        "nest_partings": "(left, right)"},
+    "autos": {
+        "compose": "(first, second)", "inverse": "(arrangement)", "keeps": "(arrangement, parting)",
+        "move_table": "(arrangement, table)", "move_parting": "(arrangement, parting)",
+        "rearrangements": "(partings, *, limit=400)", "orbits": "(arrangements)", "pair_orbits": "(arrangements)",
+        "pair_classes": "(partings)", "average_products": "(arrangements, table)"},
+    "dealings": {
+        "deal_by": "(arrangement, design)", "deal_all": "(arrangements, design)", "fixing": "(arrangements, design)",
+        "lot_dealings": "(parting, treatments, *, balanced=False)",
+        "count_dealings": "(parting, treatments, *, balanced=False)"},
 }
 CLASSES = {
     ("partings", "Parting"): {
@@ -48,6 +75,17 @@ CLASSES = {
         "__init__": "(self, cells)", "cell_sum": "(self)", "dot": "(self, table)", "square": "(self)",
         "is_zero": "(self)", "zeros": "(plots)", "mark": "(plots, lot)",
         "__add__": None, "__sub__": None, "__neg__": None, "__mul__": None, "__eq__": None, "__iter__": None},
+    ("strata", "Strata"): {
+        "__init__": "(self, partings, *, top=True, bottom=True)", "place": "(self, parting)",
+        "piece": "(self, at, table)", "pieces": "(self, table)", "squares": "(self, table)",
+        "keeps_whole": "(self, at, table)", "stratum_matrix": "(self, at)", "spectral_matrix": "(self, table)"},
+    ("spans", "Span"): {
+        "__init__": "(self, plots, tables=())", "nearest": "(self, table)", "square_in": "(self, table)",
+        "widened": "(self, tables)", "of_partings": "(plots, partings)",
+        "__contains__": None, "__or__": None, "__eq__": None},
+    ("formula", "Formula"): {
+        "__init__": "(self, tree)", "terms": "(self)", "above": "(self, name)", "factor": "(name)",
+        "__mul__": None, "__floordiv__": None, "__eq__": None},
 }
 
 
