@@ -131,11 +131,7 @@ def group_order(formula, sizes):
 
 def product_parting(first, second):
     """The product of the two partings: plot p and plot q make the plot p * m + q."""
-    check_most(first.plots * second.plots, "plots")
-    return _joint_parting(first, second)
-
-
-def _joint_parting(first, second):
+    # Too many plots are refused as in any parting.
     return Parting([left * second.plots + right for left in first.names for right in second.names])
 
 
@@ -159,14 +155,13 @@ def _check_lists(left, right):
     check_amount(len(right), "partings")
     check_alike(left[0].plots, left)
     check_alike(right[0].plots, right)
-    check_most(left[0].plots * right[0].plots, "plots")
 
 
 def _listed_once(pairs):
     """The products of the pairs without those that are equal to an earlier one."""
     found = []
     for first, second in pairs:
-        made = _joint_parting(first, second)
+        made = product_parting(first, second)
         if made not in found:
             found.append(made)
     check_most(len(found), "partings")

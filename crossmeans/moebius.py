@@ -24,8 +24,9 @@ def _moebius_row(below, low, finer_first):
     row = [0] * len(below)
     row[low] = 1
     for high in finer_first:
-        if high != low and below[low][high]:
-            row[high] = -sum([row[at] for at in finer_first if below[low][at] and below[at][high]])
+        # Members that are not coarser than `low` still have 0 here, so they need not be left out.
+        if high != low:
+            row[high] = -sum([row[at] for at in finer_first if below[at][high]])
     return row
 
 

@@ -35,7 +35,6 @@ class Strata:
     def piece(self, at, table):
         """The piece of the table at the member, a table."""
         check_index(self.many, at)
-        check_alike(self.plots, [table])
         parts = [(member, number) for member, number in zip(self.members, self.mu[at]) if number != 0]
         averages = [means(member, table) for member, _ in parts]
         return weighted_sum(self.plots, averages, [number for _, number in parts])

@@ -115,7 +115,8 @@ class CoarseFirstTest(CrossTest):
         self.refuses(RepeatedMember(1), is_coarse_first, [parting("ab"), parting("xy"), parting("a")], None)
         self.refuses(RepeatedMember(1), coarse_first_orders, [parting("ab"), parting("xy"), parting("a")], limit=101)
         self.refuses(TooMany("orders", 100), coarse_first_orders, UNLIKE, limit=101)
-        self.refuses(UnlikePlots(3, 2), is_coarse_first, UNLIKE, [0, 1, 2])
+        for order in permutations(range(3)):
+            self.refuses(UnlikePlots(3, 2), is_coarse_first, UNLIKE, order)
         self.refuses(UnlikePlots(3, 2), coarse_first_orders, UNLIKE)
 
     def test_nothing_is_shared(self):
@@ -223,6 +224,9 @@ class FitTest(CrossTest):
             self.same(is_fit(listed, table, parts), False)
         self.same(is_fit([parting("aaa"), parting("aab")], table, (right[0], ((0, 1),) * 3)), False)
         self.same(is_fit([parting("aab"), parting("aaa")], table, (right[0], ((0, 1),) * 3)), True)
+        # A part too few or too many, though it is zero.
+        self.same(is_fit(listed, table, (right[0], ((0, 1),) * 3)), False)
+        self.same(is_fit([parting("aab"), parting("aaa")], table, right), False)
         # The sum of a lot is right, but not in a later parting.
         self.same(is_fit(BROKEN, table, (right[0], ((0, 1),) * 3)), False)
 

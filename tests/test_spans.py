@@ -119,6 +119,8 @@ class NearestTest(CrossTest):
         made, short = Span(3, [Table([1, 1, 1])]), Table([1, 2])
         for call in (made.nearest, made.square_in, lambda table: table in made, lambda table: table not in made):
             self.refuses(UnlikePlots(3, 2), call, short)
+        for call in (Span(3).nearest, Span(3).square_in, lambda table: table in Span(3)):
+            self.refuses(UnlikePlots(3, 2), call, short)
 
 
 class WiderTest(CrossTest):
