@@ -176,7 +176,7 @@ def _first_unequal(members, order_one, order_two, at):
 
 def _spans_about(members, order, at):
     """The spans of the members that the order takes before the member, and of these with it."""
-    k = list(order).index(at)
+    k = order.index(at)
     return (_span_of(members, order[:k]), _span_of(members, order[:k + 1]))
 
 
