@@ -1,6 +1,7 @@
 """Checks that several modules share: kinds of values, amounts and counts of plots."""
 
-from crossmeans.errors import BadIndex, BadPlot, NoPlots, RepeatedMember, TooMany, UnlikePlots
+from crossmeans.errors import (BadIndex, BadLabel, BadName, BadPlot, NoPlots, RepeatedMember, RepeatedName, TooMany,
+                               UnlikePlots)
 
 # One limit for all of these: plots, partings, members and rows.
 MOST = 16
@@ -31,6 +32,21 @@ def is_factor_name(value):
     if not isinstance(value, str) or not 1 <= len(value) <= _LONGEST_NAME:
         return False
     return value[0] in _LETTERS and all([sign in NAME_SIGNS for sign in value])
+
+
+def check_names(names):
+    """Raise BadName or RepeatedName for the first entry that is not a new factor name."""
+    for at, name in enumerate(names):
+        if not is_factor_name(name):
+            raise BadName(name)
+        if name in names[:at]:
+            raise RepeatedName(name)
+
+
+def check_label(value, at):
+    """Raise BadLabel with the place that is told if the value is neither a whole number nor a text."""
+    if not is_whole(value) and not isinstance(value, str):
+        raise BadLabel(at)
 
 
 def check_most(amount, what, most=MOST):

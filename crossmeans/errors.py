@@ -4,6 +4,10 @@
 class CrossError(ValueError):
     """The base class of all errors of the program; it is not raised itself."""
 
+    def class_name(self):
+        """The name of the class of the error, as scripts tell it."""
+        return self.__class__.__name__
+
 
 class InputError(CrossError):
     """The base class of errors about what was passed."""

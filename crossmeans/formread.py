@@ -1,7 +1,7 @@
 """Formulas as texts, and formulas sought for given terms."""
 
-from crossmeans.checks import NAME_SIGNS, check_most, is_factor_name
-from crossmeans.errors import BadFormula, BadName, BadTree, RepeatedName, TooMany, UnknownName
+from crossmeans.checks import NAME_SIGNS, check_most, check_names, is_factor_name
+from crossmeans.errors import BadFormula, BadTree, RepeatedName, TooMany, UnknownName
 from crossmeans.formula import MOST_FACTORS, Formula, term_sets
 
 _MOST_SIGNS = 60
@@ -151,11 +151,7 @@ def _check_factors(factors):
     if len(factors) == 0:
         raise BadTree()
     check_most(len(factors), "factors", MOST_FACTORS)
-    for at, name in enumerate(factors):
-        if not is_factor_name(name):
-            raise BadName(name)
-        if name in factors[:at]:
-            raise RepeatedName(name)
+    check_names(factors)
 
 
 def _trees_over(names):

@@ -100,7 +100,7 @@ def is_projector(matrix):
 
 def solve(matrix, right):
     """The list x with matrix times x equal to the right side and 0 at each free column, or None."""
-    rows, wanted = _checked_system(matrix, right)
+    rows, wanted = checked_system(matrix, right)
     width = len(rows[0])
     joint = [whole_row(row + [number]) for row, number in zip(rows, wanted)]
     reduced, pivots = eliminated(joint, width)
@@ -114,7 +114,7 @@ def solve(matrix, right):
 
 def blind_vector(matrix, right):
     """None if `solve` finds a list; otherwise a tuple that is 0 against each column and 1 against the right side."""
-    rows, wanted = _checked_system(matrix, right)
+    rows, wanted = checked_system(matrix, right)
     width = len(rows[0])
     # The unit columns record which sum of multiples of the rows each reduced row is.
     units = identity(len(rows))
@@ -126,7 +126,7 @@ def blind_vector(matrix, right):
     return None
 
 
-def _checked_system(matrix, right):
+def checked_system(matrix, right):
     """The rows of the matrix and the right side; raise the errors of a system of equations."""
     rows = _checked_matrix(matrix)
     wanted = as_ratios(right)

@@ -5,9 +5,9 @@ from crossmeans.closure import closure
 from crossmeans.errors import BadOrder, BadPaper
 from crossmeans.lattice import is_finer, is_strictly_finer
 from crossmeans.meetings import all_orthogonal, pair_breaks
-from crossmeans.ratios import is_ratio, minus
+from crossmeans.ratios import are_ratios, minus
 from crossmeans.spans import Span, independent, nearest_weights
-from crossmeans.tables import Table, is_constant, lot_totals, table_sum, weighted_sum
+from crossmeans.tables import Table, is_constant, lot_marks, lot_totals, table_sum, weighted_sum
 
 _MOST_ORDERS = 100
 # Fits and squares of steps are worked out for this many plots only.
@@ -87,7 +87,7 @@ def fit(partings, table):
     """A fit of the table by the partings: for each one the cells of its part."""
     _check_fitted(partings, table)
     check_most(table.plots, "plots", _MOST_FITTED)
-    marks = [Table.mark(table.plots, lot) for parting in partings for lot in parting.lots]
+    marks = [mark for parting in partings for mark in lot_marks(parting)]
     owners = [at for at, parting in enumerate(partings) for _ in parting.lots]
     kept = independent(table.plots, marks)
     weights = nearest_weights([marks[k] for k in kept], table)
@@ -111,18 +111,13 @@ def is_fit(partings, table, parts):
     _check_fitted(partings, table)
     if not isinstance(parts, tuple) or len(parts) != len(partings):
         return False
-    if not all([_is_cells(table.plots, cells) for cells in parts]):
+    if not all([are_ratios(cells, table.plots) for cells in parts]):
         return False
     tables = [Table(cells) for cells in parts]
     if not all([is_constant(parting, part) for parting, part in zip(partings, tables)]):
         return False
     rest = table - table_sum(table.plots, *tables)
     return all([part == (0, 1) for parting in partings for part in lot_totals(parting, rest)])
-
-
-def _is_cells(plots, value):
-    """True if the value is a tuple with one ratio for each plot, whatever its kind is."""
-    return isinstance(value, tuple) and len(value) == plots and all([is_ratio(cell) for cell in value])
 
 
 def order_free(partings):
@@ -193,7 +188,7 @@ def is_order_paper(partings, paper):
     order_one, order_two, cells, at = paper
     if not _is_paper_order(members, order_one) or not _is_paper_order(members, order_two):
         return False
-    if not _is_cells(members[0].plots, cells) or not is_place(len(members), at):
+    if not are_ratios(cells, members[0].plots) or not is_place(len(members), at):
         return False
     table = Table(cells)
     one = _step_square(_spans_about(members, order_one, at), table)

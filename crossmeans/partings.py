@@ -1,7 +1,7 @@
 """Partings: plots that are put into lots, their meets and joins, and their written form."""
 
-from crossmeans.checks import check_alike, check_amount, check_most, check_plot, is_decimal, is_place, is_whole
-from crossmeans.errors import BadLabel, BadLots, BadText
+from crossmeans.checks import check_alike, check_amount, check_label, check_most, check_plot, is_decimal, is_place
+from crossmeans.errors import BadLots, BadText
 
 MOST_PLOTS = 16
 # The count of all partings grows too fast for more plots.
@@ -14,8 +14,7 @@ class Parting:
     def __init__(self, labels):
         check_amount(len(labels), "plots")
         for at, label in enumerate(labels):
-            if not (is_whole(label) or isinstance(label, str)):
-                raise BadLabel(at)
+            check_label(label, at)
         names = _first_places(labels)
         lots = _lots_by_name(names)
         self.plots = len(names)

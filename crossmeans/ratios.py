@@ -27,6 +27,11 @@ def is_ratio(value):
     return value[1] >= 1 and gcd(value[0], value[1]) == 1
 
 
+def are_ratios(value, count):
+    """True if the value is a tuple of so many ratios, whatever its kind is."""
+    return isinstance(value, tuple) and len(value) == count and all([is_ratio(part) for part in value])
+
+
 def as_ratio(number, at=0):
     """The ratio of the number; a value that is no number raises BadNumber with the place that is told."""
     if is_whole(number):

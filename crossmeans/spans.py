@@ -3,7 +3,7 @@
 from crossmeans.checks import check_alike, check_amount, check_most
 from crossmeans.matrices import eliminated, shared_den, solve, whole_row
 from crossmeans.ratios import over
-from crossmeans.tables import Table, weighted_sum
+from crossmeans.tables import Table, lot_marks, weighted_sum
 
 _MOST_TABLES = 64
 
@@ -31,7 +31,7 @@ class Span:
         check_amount(plots, "plots")
         check_most(len(partings), "partings")
         check_alike(plots, partings)
-        marks = [Table.mark(plots, lot) for parting in partings for lot in parting.lots]
+        marks = [mark for parting in partings for mark in lot_marks(parting)]
         return cls(plots, [marks[at] for at in independent(plots, marks)])
 
     def nearest(self, table):

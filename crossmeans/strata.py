@@ -64,6 +64,22 @@ class Strata:
         return _projector_sum(self.members, [product_sum(column, shares) for column in columns])
 
 
+def holding_place(strata, tables):
+    """The least index of a member whose stratum has all the tables, or None."""
+    for at in range(strata.many):
+        if _holds(strata, at, tables):
+            return at
+    return None
+
+
+def _holds(strata, at, tables):
+    for table in tables:
+        # A wrong stratum mostly breaks at the first table, so the others are not worked out.
+        if not strata.keeps_whole(at, table):
+            return False
+    return True
+
+
 def _projector_sum(members, weights):
     """The sum of the projectors of the members, each multiplied by its weight."""
     result = matrix_scale(identity(members[0].plots), 0)

@@ -80,6 +80,11 @@ def weighted_sum(plots, tables, weights):
     return table_sum(plots, *parts)
 
 
+def lot_marks(parting):
+    """The marks of the lots, in the order of the lots."""
+    return [Table.mark(parting.plots, lot) for lot in parting.lots]
+
+
 def lot_totals(parting, table):
     """The sum of the cells of each lot, in the order of the lots."""
     check_alike(parting.plots, [table])

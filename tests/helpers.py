@@ -167,6 +167,16 @@ def slow_marks(partings):
     return [[int(plot in lot) for plot in range(made.plots)] for made in partings for lot in made.lots]
 
 
+def slow_pieces(members, cells):
+    """Each piece: nearest in the span of the member minus nearest in the span of all strictly coarser ones."""
+    pieces = []
+    for member in members:
+        above = [high for high in members if high.names != member.names and (high | member).names == high.names]
+        own = slow_nearest(slow_marks([member]), cells)
+        pieces.append([a - b for a, b in zip(own, slow_nearest(slow_marks(above), cells))])
+    return pieces
+
+
 def every_tree(names):
     """All trees with exactly these factors, from left to right in any order."""
     if len(names) == 1:

@@ -65,6 +65,33 @@ FUNCTIONS = {
         "deal_by": "(arrangement, design)", "deal_all": "(arrangements, design)", "fixing": "(arrangements, design)",
         "lot_dealings": "(parting, treatments, *, balanced=False)",
         "count_dealings": "(parting, treatments, *, balanced=False)"},
+    "confound": {
+        "block_parting": "(house, block_words)", "confounded": "(house, block_words)",
+        "effect_square": "(house, word, table)", "contrast": "(house, word)", "effect_place": "(strata, effect)",
+        "effect_places": "(house, strata)", "choose_blocks": "(house, count, keep=())"},
+    "estimable": {
+        "information": "(strata, at, treatments)", "combined_information": "(strata, treatments, weights)",
+        "shares": "(strata, table)", "balance": "(strata, treatments)",
+        "can_estimate": "(strata, at, treatments, wish)", "estimate": "(strata, at, treatments, wish, table)",
+        "wish_cost": "(strata, at, treatments, wish)", "efficiency_of": "(strata, at, treatments, wish)",
+        "combined_estimate": "(strata, treatments, wish, table, *, weights)",
+        "combined_cost": "(strata, treatments, wish, *, weights)", "is_blind": "(matrix, wish, paper)"},
+    "seek": {
+        "latin_squares": "(size)", "is_latin": "(square)", "are_mates": "(first, second)", "mates": "(square)",
+        "square_partings": "(square)", "seek_blocks": "(treatments, size, together)",
+        "is_block_design": "(blocks, treatments, size, together)", "block_partings": "(blocks)",
+        "split_plot": "(blocks, wholes, subs)"},
+    "lost": {
+        "leave_out": "(parting, lost)", "leave_out_cells": "(table, lost)", "mends": "(partings, lost)",
+        "all_least_losses": "(partings, *, keep=())", "least_loss": "(partings, *, keep=())"},
+    "script": {"read_script": "(text)", "write_script": "(deeds)", "run_script": "(text)"},
+    "judge": {
+        "is_names": "(names)", "judge_path": "(first, second, start, goal, path)",
+        "judge_break": "(first, second, row)", "judge_table": "(first, second, cells)",
+        "judge_split": "(members, cells, pieces)", "judge_fit": "(partings, cells, parts)",
+        "judge_orders": "(members, paper, fits)", "judge_blind": "(matrix, wish, paper)",
+        "judge_deal": "(arrangement, design, dealt)", "judge_loss": "(partings, lost)",
+        "judge_blocks": "(blocks, treatments, size, together)"},
 }
 CLASSES = {
     ("partings", "Parting"): {
@@ -86,6 +113,21 @@ CLASSES = {
     ("formula", "Formula"): {
         "__init__": "(self, tree)", "terms": "(self)", "above": "(self, name)", "factor": "(name)",
         "__mul__": None, "__floordiv__": None, "__eq__": None},
+    ("words", "Words"): {
+        "__init__": "(self, prime, factors)", "point": "(self, plot)", "value": "(self, word, plot)",
+        "word_parting": "(self, word)", "word_sum": "(self, left, right)", "multiple": "(self, word, times)",
+        "lead": "(self, word)", "weight": "(self, word)", "generated": "(self, words)",
+        "is_independent": "(self, words)", "coset": "(self, words, word)", "least_weight": "(self, words)",
+        "fraction": "(self, words)", "write": "(self, word)", "read": "(self, text)"},
+    ("anova", "Anova"): {
+        "__init__": "(self, blocks, effects=())", "plan": "(self)", "lines": "(self, table)",
+        "report": "(self, table)"},
+    ("keep", "Book"): {
+        "__init__": "(self, names, rows)", "rows_now": "(self)", "put": "(self, plot, number)",
+        "relabel": "(self, plot, name, label)", "swap": "(self, plot, other)", "add_plot": "(self, labels, number)",
+        "drop": "(self, plot)", "undo": "(self)", "table": "(self)", "parting": "(self, name)",
+        "lot_size": "(self, name, label)", "breaks": "(self)", "is_orthogonal": "(self)", "squares": "(self)",
+        "unlike_orders": "(self)", "twin": "(self)", "__iter__": None},
 }
 
 

@@ -51,6 +51,10 @@ def nodes_of(*kinds):
     return [(name, node) for name, tree in TREES.items() for node in ast.walk(tree) if isinstance(node, kinds)]
 
 
+CLASS_VALUES = {target.id for _, made in nodes_of(ast.ClassDef) for node in made.body if isinstance(node, ast.Assign)
+                for target in node.targets}
+
+
 class FileTest(TestCase):
     def test_files(self):
         left = [path for path in FOLDER.rglob("*") if "__pycache__" not in path.parts and path not in FILES]
@@ -171,7 +175,38 @@ class CodeTest(TestCase):
 
     def test_attributes_are_assigned_somewhere(self):
         stored = {node.attr for _, node in nodes_of(ast.Attribute) if isinstance(node.ctx, ast.Store)}
-        own = {node.name for _, node in nodes_of(ast.FunctionDef)}
+        own = {node.name for _, node in nodes_of(ast.FunctionDef)} | CLASS_VALUES
         for name, node in nodes_of(ast.Attribute):
-            if isinstance(node.ctx, ast.Load):
+            if isinstance(node.ctx, ast.Load) and not node.attr.startswith("__"):
                 self.assertIn(node.attr, stored | own | METHODS, f"L18 {name}:{node.lineno}")
+
+    def test_names_of_classes(self):
+        for name, node in nodes_of(ast.Attribute):
+            if node.attr.startswith("__"):
+                self.assertIn(node.attr, ("__class__", "__name__"), f"L8 {name}:{node.lineno}")
+            if node.attr == "__name__":
+                self.assertEqual(ast.unparse(node), "self.__class__.__name__", f"L8 {name}:{node.lineno}")
+
+    def test_no_name_is_a_method_and_an_attribute(self):
+        stored = {node.attr for _, node in nodes_of(ast.Attribute) if isinstance(node.ctx, ast.Store)}
+        methods = {node.name for _, made in nodes_of(ast.ClassDef) for node in made.body
+                   if isinstance(node, ast.FunctionDef)}
+        self.assertEqual(stored & methods, set(), "L18")
+        self.assertEqual((stored | methods) & CLASS_VALUES, set(), "L5")
+
+    def test_caught_errors(self):
+        own = {node.name for _, node in nodes_of(ast.ClassDef)}
+        for name, node in nodes_of(ast.ExceptHandler):
+            caught = node.type.elts if isinstance(node.type, ast.Tuple) else [node.type]
+            self.assertLessEqual({made.id for made in caught}, own, f"L19 {name}:{node.lineno}")
+            # The error itself is only asked: it is not kept or passed on.
+            used = [made for made in ast.walk(node) if isinstance(made, ast.Name) and made.id == node.name]
+            asked = [made for made in ast.walk(node) if isinstance(made, ast.Attribute) and made.value in used]
+            self.assertEqual(len(used), len(asked), f"L19 {name}:{node.lineno}")
+
+    def test_sequences_that_the_library_goes_over(self):
+        for name, node in nodes_of(ast.Call):
+            if isinstance(node.func, ast.Name) and node.func.id in {"product", "combinations", "permutations"}:
+                self.assertFalse(node.keywords, f"L2 {name}:{node.lineno}")
+                for argument in node.args:
+                    self.assertNotIsInstance(argument, (ast.Starred, ast.GeneratorExp), f"L2 {name}:{node.lineno}")

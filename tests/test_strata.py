@@ -8,8 +8,7 @@ from crossmeans.partings import Parting
 from crossmeans.strata import Strata, is_split
 from crossmeans.tables import Table, table_sum
 from tests.helpers import (BIG, NO_WHOLE, CrossTest, dot, every_parting, fraction, fractions, mixed_lists, names_of,
-                           numbers, pair_of, parting, partings_of, slow_closure, slow_marks, slow_nearest,
-                           slow_orthogonal)
+                           numbers, pair_of, parting, partings_of, slow_closure, slow_orthogonal, slow_pieces)
 
 # Joins of these make 15 members, and neither trivial parting is among them.
 PAIRS = [parting(text) for text in ("aabcdefghi", "abccdefghi", "abcdeefghi", "abcdefgghi")]
@@ -17,16 +16,6 @@ ORTHOGONAL = [partings_of(texts) for texts in (
     ["aabb"], ["abcd", "aabb", "aabb"], ["aabb", "abab"], ["aabb", "abab", "abba"], ["aaab"], ["a"], ["a", "a"],
     ["aaabbb", "abcabc"], ["aabbcc", "aaaabb", "abcdef"], ["abcd"], ["aaaa"], ["aabbcd"], ["aabc", "aaab"],
     ["abcabcabc", "aaabbbccc", "abcbcacab"], ["aabbaabb", "abababab", "aaaabbbb"])]
-
-
-def slow_pieces(members, cells):
-    """Each piece: nearest in the span of the member minus nearest in the span of all strictly coarser ones."""
-    pieces = []
-    for member in members:
-        above = [high for high in members if high.names != member.names and (high | member).names == high.names]
-        own = slow_nearest(slow_marks([member]), cells)
-        pieces.append([a - b for a, b in zip(own, slow_nearest(slow_marks(above), cells))])
-    return pieces
 
 
 def pairs(cells):

@@ -1,0 +1,62 @@
+"""Lost plots: what remains without them, and the fewest that leave a list of partings orthogonal."""
+
+from itertools import combinations
+
+from crossmeans.checks import check_alike, check_amount, check_lot, check_most
+from crossmeans.errors import NoMend, NoPlots
+from crossmeans.meetings import all_orthogonal
+from crossmeans.partings import Parting
+from crossmeans.tables import Table
+
+# The sets of lost plots are gone through for this many plots and partings only.
+_MOST_PLOTS = 7
+_MOST_PARTINGS = 4
+
+
+def leave_out(parting, lost):
+    """The parting of the plots that remain."""
+    return Parting([parting.names[plot] for plot in _remaining(parting.plots, lost)])
+
+
+def leave_out_cells(table, lost):
+    """The table of the cells that remain."""
+    return Table([table.cells[plot] for plot in _remaining(table.plots, lost)])
+
+
+def _remaining(plots, lost):
+    """The plots that are not lost, ascending; raise the errors of a list of lost plots."""
+    check_lot(plots, lost)
+    remaining = [plot for plot in range(plots) if plot not in lost]
+    if remaining == []:
+        raise NoPlots()
+    return remaining
+
+
+def mends(partings, lost):
+    """True if the partings of the plots that remain are pairwise orthogonal."""
+    check_amount(len(partings), "partings")
+    check_lot(partings[0].plots, lost)
+    check_alike(partings[0].plots, partings)
+    return all_orthogonal([leave_out(parting, lost) for parting in partings])
+
+
+def all_least_losses(partings, *, keep=()):
+    """All mending sets without a plot of `keep` that have the fewest plots of all these, ascending."""
+    check_amount(len(partings), "partings")
+    plots = partings[0].plots
+    check_lot(plots, keep)
+    check_alike(plots, partings)
+    check_most(plots, "plots", _MOST_PLOTS)
+    check_most(len(partings), "partings", _MOST_PARTINGS)
+    free = [plot for plot in range(plots) if plot not in keep]
+    # At least one plot must remain.
+    for count in range(min(len(free), plots - 1) + 1):
+        losses = [lost for lost in combinations(free, count) if mends(partings, lost)]
+        if losses:
+            return losses
+    raise NoMend()
+
+
+def least_loss(partings, *, keep=()):
+    """The first of all least losses."""
+    return all_least_losses(partings, keep=keep)[0]
