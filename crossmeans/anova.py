@@ -23,8 +23,7 @@ class Anova:
         block_partings = [parting for _, parting in blocks]
         effect_partings = [parting for _, parting in effects]
         check_alike(block_partings[0].plots, block_partings + effect_partings)
-        # Too many members of either list come before what is not orthogonal in either list.
-        closure(block_partings, bottom=True)
+        # Too many effect members come before blocks that are not orthogonal.
         if effect_partings:
             closure(effect_partings)
         self.strata = Strata(block_partings)

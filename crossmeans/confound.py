@@ -26,7 +26,6 @@ def confounded(house, block_words):
 def effect_square(house, word, table):
     """The square of the difference between the means by the word's parting and by the one-lot parting."""
     parting = house.word_parting(word)
-    check_alike(house.plots, [table])
     difference = means(parting, table) - means(Parting.one(house.plots), table)
     return difference.square()
 
@@ -42,7 +41,6 @@ def contrast(house, word):
 
 def effect_place(strata, effect):
     """The least index of a member whose stratum holds the effect, or None."""
-    check_alike(strata.plots, [effect])
     one = Parting.one(effect.plots)
     return holding_place(strata, [residue(one, mark) for mark in lot_marks(effect)])
 

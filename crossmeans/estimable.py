@@ -12,7 +12,6 @@ _ZERO = (0, 1)
 def information(strata, at, treatments):
     """The information matrix of the stratum, with a row and a column for each treatment."""
     check_index(strata.many, at)
-    check_alike(strata.plots, [treatments])
     return _information(strata, _lone_weights(strata, at), treatments)
 
 

@@ -266,7 +266,7 @@ def judge_blocks(blocks, treatments, size, together):
     """True if the blocks are a design with so many treatments, so many in a block, and so often together."""
     if not all([_is_whole(number) and 1 <= number <= _MOST for number in [treatments, size, together]]):
         return False
-    if not 2 <= size <= treatments or not isinstance(blocks, tuple) or len(blocks) == 0:
+    if not 2 <= size <= treatments or not isinstance(blocks, tuple):
         return False
     if not all([_are_places(treatments, block) and len(block) == size and _ascends(block) for block in blocks]):
         return False

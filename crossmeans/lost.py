@@ -3,7 +3,7 @@
 from itertools import combinations
 
 from crossmeans.checks import check_alike, check_amount, check_lot, check_most
-from crossmeans.errors import NoMend, NoPlots
+from crossmeans.errors import NoMend
 from crossmeans.meetings import all_orthogonal
 from crossmeans.partings import Parting
 from crossmeans.tables import Table
@@ -24,12 +24,9 @@ def leave_out_cells(table, lost):
 
 
 def _remaining(plots, lost):
-    """The plots that are not lost, ascending; raise the errors of a list of lost plots."""
+    """The plots that are not lost, ascending. If there are none, no parting and no table can be made of them."""
     check_lot(plots, lost)
-    remaining = [plot for plot in range(plots) if plot not in lost]
-    if remaining == []:
-        raise NoPlots()
-    return remaining
+    return [plot for plot in range(plots) if plot not in lost]
 
 
 def mends(partings, lost):
@@ -49,8 +46,8 @@ def all_least_losses(partings, *, keep=()):
     check_most(plots, "plots", _MOST_PLOTS)
     check_most(len(partings), "partings", _MOST_PARTINGS)
     free = [plot for plot in range(plots) if plot not in keep]
-    # At least one plot must remain.
-    for count in range(min(len(free), plots - 1) + 1):
+    # A single plot that remains is always mended, so all plots are never tried.
+    for count in range(len(free) + 1):
         losses = [lost for lost in combinations(free, count) if mends(partings, lost)]
         if losses:
             return losses

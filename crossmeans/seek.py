@@ -79,7 +79,7 @@ def seek_blocks(treatments, size, together):
     check_most(treatments, "treatments", _MOST_TREATMENTS)
     check_most(size, "size", _MOST_IN_BLOCK)
     check_most(together, "together", _MOST_TOGETHER)
-    if treatments < 2 or size < 2 or together < 1 or size > treatments:
+    if size < 2 or together < 1 or size > treatments:
         raise NoDesign()
     due = {pair: together for pair in combinations(range(treatments), 2)}
     design = _least_blocks(list(combinations(range(treatments), size)), due, ())
@@ -93,10 +93,9 @@ def _least_blocks(blocks, due, begun):
     open_pairs = [pair for pair, count in due.items() if count > 0]
     if open_pairs == []:
         return begun
-    last = begun[-1] if begun else ()
     for block in blocks:
-        # A block with the first open pair begins with it: what stands before or between is not due with both.
-        if block >= last and block[:2] == open_pairs[0]:
+        # The least block that is left begins with the first pair that is due, as no lesser pair may stand in it.
+        if block[:2] == open_pairs[0]:
             left = _without_block(due, block)
             design = _least_blocks(blocks, left, begun + (block,)) if min(list(left.values())) >= 0 else None
             if design is not None:
@@ -111,9 +110,7 @@ def _without_block(due, block):
 
 def is_block_design(blocks, treatments, size, together):
     """True if the value is a block design with so many treatments, in a block, and times together."""
-    if not isinstance(blocks, tuple) or len(blocks) == 0:
-        return False
-    if not all([_is_block(treatments, size, block) for block in blocks]):
+    if not isinstance(blocks, tuple) or not all([_is_block(treatments, size, block) for block in blocks]):
         return False
     if any([block > other for block, other in zip(blocks, blocks[1:])]):
         return False
@@ -132,7 +129,8 @@ def _is_block(treatments, size, value):
 
 def block_partings(blocks):
     """The partings of the places of the blocks by blocks and by treatments."""
-    if len(blocks) == 0 or any([len(block) == 0 for block in blocks]):
+    # No block at all, or too many places, are refused as in any parting.
+    if any([len(block) == 0 for block in blocks]):
         raise NoPlots()
     places = [(at, treatment) for at, block in enumerate(blocks) for treatment in block]
     return [Parting([at for at, _ in places]), Parting([treatment for _, treatment in places])]

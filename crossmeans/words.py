@@ -1,6 +1,6 @@
 """Words: exponents of 2 or 3 levels, their sums and multiples, and the partings that they make."""
 
-from crossmeans.checks import check_amount, check_most, check_plot, is_place, is_whole
+from crossmeans.checks import check_amount, check_most, check_plot, is_place
 from crossmeans.errors import BadPrime, BadText, BadWord
 from crossmeans.partings import Parting
 
@@ -13,8 +13,7 @@ class Words:
     PRIMES = (2, 3)
 
     def __init__(self, prime, factors):
-        # The kind comes first, so that a value of another kind is never compared.
-        if not is_whole(prime) or prime not in Words.PRIMES:
+        if prime not in Words.PRIMES:
             raise BadPrime(prime)
         # Each factor at least doubles the plots, so a long count of factors never has to be gone through.
         check_amount(factors, "plots")
@@ -62,8 +61,7 @@ class Words:
 
     def lead(self, word):
         """The multiple of the word whose first nonzero exponent is 1; the empty word for itself."""
-        check_word(self, word)
-        # Below 2 and 3 each exponent other than 0 times itself is 1.
+        # Modulo 2 and 3 each exponent other than 0 times itself is 1.
         return self.multiple(word, _first_exponent(word))
 
     def weight(self, word):

@@ -149,7 +149,8 @@ class LineTest(CrossTest):
 
 class LabelTest(CrossTest):
     def test_labels(self):
-        made = Anova(pairs_of("b=aabb c=abab b2=xxyy one=aaaa c2=xyxy all=abcd"), pairs_of("t=abab u=xyxy v=aabb w=aaaa"))
+        made = Anova(pairs_of("b=aabb c=abab b2=xxyy one=aaaa c2=xyxy all=abcd"),
+                     pairs_of("t=abab u=xyxy v=aabb w=aaaa"))
         self.same(made.labels, ("one", "b=b2", "c=c2", "all"))
         self.same(made.effect_labels, ("w", "v", "t=u"))
         self.same(made.plots, 4)

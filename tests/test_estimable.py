@@ -169,6 +169,7 @@ class BalanceTest(CrossTest):
 
     def test_unlike_counts(self):
         self.refuses(UnlikePlots(4, 2), balance, ROWS, parting("xy"))
+        self.refuses(UnlikePlots(4, 2), balance, Strata([parting("aaaa")], bottom=False), parting("xy"))
 
 
 class WishTest(CrossTest):

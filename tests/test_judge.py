@@ -24,7 +24,8 @@ from tests.test_orders import BROKEN, PAPER
 from tests.test_seek import FANO
 
 DEEP = ((((((1, 2),), [3]), None), "x"), True)
-WIDE = (tuple(range(200)), (0,) * 200, ((0, 1),) * 200, ((0,) * 16,) * 17, [(0, 1)] * 200, "0" * 200, ((0,) * 200,) * 200)
+WIDE = (tuple(range(200)), (0,) * 200, ((0, 1),) * 200, ((0,) * 16,) * 17, [(0, 1)] * 200, "0" * 200,
+        ((0,) * 200,) * 200)
 VALUES = ANY_VALUES + WIDE + (DEEP, (0, 0), (0, 1, 2), ((0, 1),), ((0, 1), (0, 1)), ((0, 0), (0, 1)), ((0, 1), (1, 1)),
                               ((0, 0, 2), (0, 1, 1)), (((0, 1),),), (-1,), (BIG,), ((1, BIG), (BIG, 1)))
 FIRST, SECOND = (0, 0, 2), (0, 1, 1)
@@ -294,31 +295,28 @@ class OrdersTest(CrossTest):
             for one, two in product(coarse_first_orders(members)[:6], repeat=2):
                 for cells, at in product(((1, 0, 0, 0), (1, 2, 0, 5)), range(len(members))):
                     table = Table(cells[:members[0].plots])
-                    fits = []
-                    for order in (one, two):
-                        step = order.index(at)
-                        for taken in (order[:step], order[:step + 1]):
-                            fits.append(fit([members[place] for place in taken], table))
-                    right = (sequence_squares(members, one, table)[at] != sequence_squares(members, two, table)[at])
-                    self.same(judge_orders(names, (one, two, table.cells, at), tuple(fits)), right)
+                    fits = fits_of(members, (one, two, table.cells, at))
+                    right = sequence_squares(members, one, table)[at] != sequence_squares(members, two, table)[at]
+                    self.same(judge_orders(names, (one, two, table.cells, at), fits), right)
 
     def test_wrong_members(self):
         one, two, three = self.MEMBERS
-        for members in ((one, three, two), (two, one, three), (one, two), (one, two, two), (two, three), (one, two, three, three),
-                        list(self.MEMBERS), (one, two, (0, 1)), (one, two, three, (0, 1, 2)), (one, two, (0, 1, 0)), ()):
+        # With fits that belong to the members as they stand, all but their list is right.
+        cells = Table.mark(4, [0]).cells
+        for texts, right in ((["aaaa", "aaab", "aabc", "abbc"], True), (["aaab", "aabc", "abbc"], False),
+                             (["aaaa", "aaab", "abbc", "aabc"], False), (["aaaa", "aabc", "abbc"], False),
+                             (["aaab", "aaaa", "aabc", "abbc"], False)):
+            members = partings_of(texts)
+            last = len(members) - 1
+            begun = tuple(range(last - 1)) if texts[0] == "aaaa" or last == 2 else (1, 0)
+            paper = (begun + (last - 1, last), begun + (last, last - 1), cells, last)
+            self.same(judge_orders(tuple(names_of(members)), paper, fits_of(members, paper)), right)
+        for members in ((one, three, two), (two, one, three), (one, two), (one, two, two), (two, three),
+                        (one, two, three, three), list(self.MEMBERS), (one, two, (0, 1)),
+                        (one, two, three, (0, 1, 2)), (one, two, (0, 1, 0)), ()):
             self.same(judge_orders(members, PAPER, self.FITS), False)
-        # Not closed by joins: the join of the last two is neither of the members.
-        first, second = parting("aabcd"), parting("abbcd")
-        joined = first | second
-        closed = [Parting.one(5), joined, first, second]
-        table = Table.mark(5, [0])
-        paper = ((0, 1, 2, 3), (0, 1, 3, 2), table.cells, 2)
-        fits = [fit([closed[k] for k in taken], table) for taken in ((0, 1), (0, 1, 2), (0, 1, 3), (0, 1, 3, 2))]
-        self.same(judge_orders(tuple(names_of(closed)), paper, tuple(fits)), True)
-        open_list = [closed[0], first, second]
-        paper = ((0, 1, 2), (0, 2, 1), table.cells, 1)
-        fits = [fit([open_list[k] for k in taken], table) for taken in ((0,), (0, 1), (0, 2), (0, 2, 1))]
-        self.same(judge_orders(tuple(names_of(open_list)), paper, tuple(fits)), False)
+        lone = (((0,), (0,), ((1, 1), (2, 1)), 0), ((), (((3, 2),) * 2,)) * 2)
+        self.same(judge_orders(((0, 0),), *lone), False)
 
     def test_wrong_papers(self):
         one, two, cells, at = PAPER
@@ -333,8 +331,9 @@ class OrdersTest(CrossTest):
         fits = self.FITS
         zero = ((0, 1),) * 3
         for other in (fits[:3], fits + fits[:1], list(fits), fits[::-1], (fits[0], fits[0], fits[2], fits[3]),
-                      ((),) + fits[1:], (fits[0], fits[1] + (zero,), fits[2], fits[3]), (fits[0], fits[1][::-1]) + fits[2:],
-                      fits[:3] + (fits[3] + (zero,),), ((), (), (), ()), None, (fits[0], list(fits[1])) + fits[2:]):
+                      ((),) + fits[1:], (fits[0], fits[1] + (zero,), fits[2], fits[3]),
+                      (fits[0], fits[1][::-1]) + fits[2:], fits[:3] + (fits[3] + (zero,),), ((), (), (), ()),
+                      None, (fits[0], list(fits[1])) + fits[2:]):
             self.same(judge_orders(self.MEMBERS, PAPER, other), False)
         for at, parts in enumerate(fits):
             for k, part in enumerate(parts):
@@ -359,6 +358,13 @@ class OrdersTest(CrossTest):
         paper = ((0, 1, 2, 3), (0, 1, 3, 2), table.cells, 2)
         self.same(judge_orders(tuple(names_of(members)), paper, tuple(fits)), True)
         self.same(judge_orders(tuple(names_of(members)), paper[:3] + (1,), tuple(fits)), False)
+
+
+def fits_of(members, paper):
+    """The four fits of a paper of any members."""
+    one, two, cells, at = paper
+    taken = [order[:order.index(at) + more] for order in (one, two) for more in (0, 1)]
+    return tuple(fit([members[place] for place in places], Table(cells)) for places in taken)
 
 
 def added(left, right):
@@ -409,6 +415,8 @@ class DealTest(CrossTest):
                 ((3, 4), (4,), (4, 3, 3), (16, 3), (4, -1), (4, False), (4, None), [4, 3], (), "43", (4, [3])))):
             for value in values:
                 self.same(judge_deal(*right[:at], value, *right[at + 1:]), False)
+        self.same(judge_deal((1, 1), (3, 3), (3, 3)), False)
+        self.same(judge_deal((0, 0), (3, 3), (3, 4)), False)
         seventeen = tuple(range(17))
         self.same(judge_deal(seventeen, (0,) * 17, (0,) * 17), False)
         self.same(judge_deal((), (), ()), False)
@@ -479,3 +487,14 @@ class BlocksTest(CrossTest):
             self.same(judge_blocks(design, 7, 3, 1), is_block_design(design, 7, 3, 1))
             self.same(judge_blocks(design, 7, 3, 1), False)
         self.same(judge_blocks(FANO[::-1], 7, 3, 1), False)
+        self.same(judge_blocks(((0, 1, 2),), 3, 2, 1), False)
+        self.same(judge_blocks(((0, 1, 2), (0, 3), (1, 3), (2, 3)), 4, 2, 1), False)
+
+    def test_all_small_tuples_of_blocks(self):
+        for treatments, size, most in ((3, 2, 3), (3, 3, 2), (2, 2, 3)):
+            blocks = list(product(range(treatments), repeat=size))
+            for length in range(most + 1):
+                for design in product(blocks, repeat=length):
+                    for together in (1, 2):
+                        right = is_block_design(design, treatments, size, together)
+                        self.same(judge_blocks(design, treatments, size, together), right)

@@ -260,7 +260,8 @@ class QuestionTest(CrossTest):
     def books(self):
         for seed in range(30):
             many, plots = 1 + seed % 3, 1 + seed % 6
-            rows = [(numbers(seed * 31 + plot, many, 0, 1 + seed % 2), (plot - 2, 1 + seed % 4)) for plot in range(plots)]
+            rows = [(numbers(seed * 31 + plot, many, 0, 1 + seed % 2), (plot - 2, 1 + seed % 4))
+                    for plot in range(plots)]
             yield Book(list("abc"[:many]), rows)
 
     def test_answers(self):

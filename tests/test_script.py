@@ -27,7 +27,8 @@ WRONG = (
     "plot x_ 1", "plot abcdefg 1", "plot x 123456789012345678901", "plot x 1/", "plot x 1 ", "plot  x 1", "plot -1 1",
     "put", "put 0", "put 0 1 2", "put 00 1", "put 01 1", "put -1 1", "put 1234567 1", "put a 1", "put 0 x", "put 0 1/1",
     "put +1 1", "put 1/2 1", "relabel 0 a", "relabel 0 a x y", "relabel 0 A x", "relabel 0 a X", "relabel 00 a x",
-    "relabel 0 1 x", "relabel 0 a abcdefg", "drop", "drop 0 1", "drop 01", "drop -1", "swap 0", "swap 0 1 2", "swap 0 01",
+    "relabel 0 1 x", "relabel 0 a abcdefg", "drop", "drop 0 1", "drop 01", "drop -1", "swap 0", "swap 0 1 2",
+    "swap 0 01",
     "undo 1", "undo ", "parting", "parting a b", "parting A", "parting 1", "means", "means a b", "meet a", "meet a b c",
     "meet a B", "join", "join a", "orthogonal a", "orthogonal a b c", "break a", "break a b c", "closure a",
     "dimensions 1", "squares a", "orders a", "rows 0", "terms", "terms a b", "terms  a", "terms " + "x" * 31, "add x 1",
@@ -162,8 +163,8 @@ class RunTest(CrossTest):
     def test_each_question(self):
         for deed, line in (
                 ("parting a", "0 1|2"), ("parting b", "0 2|1"), ("meet a b", "0|1|2"), ("join a b", "0 1 2"),
-                ("meet a a", "0 1|2"), ("means a", "11/4 11/4 -4"), ("means b", "1/2 1/2 1/2"), ("orthogonal a b", "no"),
-                ("orthogonal b b", "yes"), ("break a b", "0 0 0 1 2 2 3"), ("break b a", "0 0 0 1 2 2 3"),
+                ("meet a a", "0 1|2"), ("means a", "11/4 11/4 -4"), ("means b", "1/2 1/2 1/2"),
+                ("orthogonal a b", "no"), ("orthogonal b b", "yes"), ("break a b", "0 0 0 1 2 2 3"), ("break b a", "0 0 0 1 2 2 3"),
                 ("break a a", "none"), ("closure", "0 1 2 / 0 1|2 / 0 2|1 / 0|1|2"), ("dimensions", "1 1 1 0"),
                 ("squares", "refused NotOrthogonal"), ("orders", "0 1 2 / 0 2 1 / 1 0 0 / 1"),
                 ("rows", "x 1 5 / x 2 1/2 / y 1 -4"), ("terms a*b", "a + b + a.b"), ("terms a*", "refused BadFormula"),

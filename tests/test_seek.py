@@ -80,6 +80,8 @@ class LatinTest(CrossTest):
         self.same(are_mates(ONE, ONE), True)
         self.same(are_mates(CYCLE, CYCLE), False)
         self.same(are_mates(CYCLE, cyclic(4)), False)
+        self.same(are_mates(ONE, CYCLE), False)
+        self.same(are_mates(CYCLE, ONE), False)
         self.same(are_mates(cyclic(7), cyclic(7, 3)), True)
         self.same(are_mates(cyclic(16), cyclic(16)), False)
         for value in SPOILT_SQUARES:
@@ -203,6 +205,18 @@ class BlocksTest(CrossTest):
                 if length < 4 or list(design) == sorted(design):
                     for together in (1, 2, 3):
                         self.same(is_block_design(design, 4, 3, together), slow_design(design, 4, 3, together))
+
+    def test_all_small_tuples_of_blocks(self):
+        for treatments, size, most in ((3, 2, 3), (2, 3, 2), (3, 3, 2), (3, 1, 2), (2, 2, 4)):
+            blocks = list(product(range(treatments), repeat=size))
+            for length in range(most + 1):
+                for design in product(blocks, repeat=length):
+                    for together in (1, 2):
+                        right = slow_design(design, treatments, size, together)
+                        self.same(is_block_design(design, treatments, size, together), right)
+        # Blocks of other sizes, by which each two treatments are together as often as is told.
+        self.same(is_block_design(((0, 1, 2),), 3, 2, 1), False)
+        self.same(is_block_design(((0, 1, 2), (0, 3), (1, 3), (2, 3)), 4, 2, 1), False)
 
     def test_spoilt_designs(self):
         for at in range(7):

@@ -175,8 +175,8 @@ class WordTest(CrossTest):
                         self.refuses(BadText(text), house.read, text)
 
     def test_texts_that_are_no_written_form(self):
-        for text in ("", " ", "1 ", " 1", "a ", " a", "a b", "ba", "aa", "a1", "a1b", "a0b", "a3", "b2a", "2", "2a", "c",
-                     "e", "A", "AB", "a*b", "a.b", "11", "a1b1", "ab22", "a\n", "\na", "1\n", "a" * 2000):
+        for text in ("", " ", "1 ", " 1", "a ", " a", "a b", "ba", "aa", "a1", "a1b", "a0b", "a3", "b2a", "2", "2a",
+                     "c", "e", "A", "AB", "a*b", "a.b", "11", "a1b1", "ab22", "a\n", "\na", "1\n", "a" * 2000):
             self.refuses(BadText(text), NINE.read, text)
         self.refuses(BadText("d"), CUBE.read, "d")
         self.refuses(BadText("a2"), CUBE.read, "a2")
