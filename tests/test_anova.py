@@ -213,8 +213,10 @@ class WrongTest(CrossTest):
         two, three, four = parting("ab"), parting("abc"), parting("abcd")
         self.refuses(UnlikePlots(2, 3), Anova, [("a", two), ("b", three), ("c", four)], [("d", four)])
         self.refuses(UnlikePlots(2, 4), Anova, [("a", two), ("b", two)], [("c", two), ("d", four), ("e", three)])
+        self.refuses(UnlikePlots(2, 3), Anova, [("a", two), ("b", two)], [("c", three), ("d", four)])
         long = [(f"n{k}", made) for k, made in enumerate(PAIRS)]
         self.refuses(UnlikePlots(10, 2), Anova, long, [("x", two)])
+        self.refuses(UnlikePlots(2, 10), Anova, [("x", two)], long)
 
     def test_order_of_the_other_errors(self):
         pairs = [(f"n{k}", made) for k, made in enumerate(PAIRS)]

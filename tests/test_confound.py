@@ -12,7 +12,7 @@ from crossmeans.tables import Table, means
 from crossmeans.words import Words
 from tests.helpers import (BIG, NO_WHOLE, CrossTest, every_parting, fraction, numbers, pair_of, parting, partings_of,
                            slow_means, slow_pieces)
-from tests.test_words import CUBE, HOUSES, NINE, mixed_words, slow_generated, slow_value, word_lists, words_of
+from tests.test_words import CUBE, HOUSES, NINE, slow_generated, slow_value, word_lists, words_of
 
 PAIR = Words(2, 2)
 

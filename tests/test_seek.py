@@ -283,7 +283,7 @@ class PartingsTest(CrossTest):
                   [(0, 0, 2, 2), (0, 1, 0, 1), (0, 1, 2, 3)])
 
     def test_wrong_split_plots(self):
-        for numbers in ((0, 1, 1), (1, 0, 1), (1, 1, 0), (-1, -1, 1), (17, 17, 0), (BIG, -BIG, BIG), (-BIG, 17, 1)):
+        for numbers in ((0, 1, 1), (1, 0, 1), (1, 1, 0), (-1, -1, 1), (17, 17, 0), (-5, -4, 1), (-17, 1, -1), (BIG, -BIG, BIG), (-BIG, 17, 1)):
             self.refuses(NoPlots(), split_plot, *numbers)
         for numbers in ((17, 1, 1), (1, 17, 1), (1, 1, 17), (2, 3, 3), (BIG, BIG, 1), (1, 1, BIG)):
             self.refuses(TooMany("plots", 16), split_plot, *numbers)

@@ -282,7 +282,7 @@ class WrongWordTest(CrossTest):
     def test_errors_come_in_the_order_of_the_parameters(self):
         self.refuses(BadWord(2), CUBE.value, [0, 1], 8)
         self.refuses(BadPlot(8), CUBE.value, [0, 1, 1], 8)
-        self.refuses(BadWord(1), CUBE.word_sum, [0, 2, 0], [0])
+        self.refuses(BadWord(2), CUBE.word_sum, [0, 0, 2], [0])
         self.refuses(BadWord(1), CUBE.word_sum, [0, 1, 0], [0])
         self.refuses(TooMany("words", 16), CUBE.coset, [None] * 17, [])
         self.refuses(BadWord(2), CUBE.coset, [[0, 0, 3]], [])
